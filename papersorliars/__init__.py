@@ -1,0 +1,1 @@
+"""Papersorliars: a paper or a liar for every book of wishes."""

@@ -1,0 +1,1 @@
+"""Tests of papersorliars: python3 -m unittest discover -s tests -t . (from the top of the repository)."""

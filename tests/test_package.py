@@ -1,0 +1,73 @@
+"""The form of the package: its files, their sizes and characters, and where the interface is defined."""
+
+import ast
+import importlib
+import pathlib
+import unittest
+
+import papersorliars
+
+FOLDER = pathlib.Path(papersorliars.__file__).parent
+
+# The functions of each file of the interface.
+FUNCTIONS = {
+    "stands": "check_stand denied stands_of",
+    "changes": "narrowed renamed turned renamed_row turned_row fillings first_filling",
+    "texts": "value_text read_value",
+    "trees": "tree_fault tree_depth tree_leaves ways leaf_of narrowed_tree renamed_tree turned_tree crossed_tree",
+}
+
+# The classes, with the methods and properties that the interface lists for them.
+CLASSES = {
+    ("books", "Book"): "__init__ read text breaks widest __iter__ __contains__ __eq__ __or__ __add__ __mul__",
+    ("players", "Liar"): "__init__ check_free hold broken",
+}
+
+
+class Package(unittest.TestCase):
+
+    def files(self):
+        return sorted(FOLDER.rglob("*.py"))
+
+    def test_sizes_and_characters(self):
+        for file in self.files():
+            lines = file.read_text(encoding="utf-8").split("\n")
+            self.assertLess(len(lines), 400, file)
+            for at, line in enumerate(lines, 1):
+                self.assertLessEqual(len(line), 120, (file, at))
+                self.assertTrue(all(" " <= sign <= "~" for sign in line), (file, at))
+
+    def test_functions_have_at_most_forty_lines(self):
+        for file in self.files():
+            for node in ast.walk(ast.parse(file.read_text(encoding="utf-8"))):
+                if isinstance(node, ast.FunctionDef):
+                    self.assertLessEqual(node.end_lineno - node.lineno + 1, 40, (file, node.name))
+
+    def test_imports_are_those_of_the_package_and_of_the_allowed_library(self):
+        for file in self.files():
+            for node in ast.walk(ast.parse(file.read_text(encoding="utf-8"))):
+                self.assertNotIsInstance(node, ast.Import, file)
+                if isinstance(node, ast.ImportFrom):
+                    self.assertEqual(node.level, 0, file)
+                    allowed = node.module in ("heapq", "math", "itertools", "collections", "__future__")
+                    self.assertTrue(allowed or node.module.startswith("papersorliars."), (file, node.module))
+
+    def test_the_functions_stand_in_their_files(self):
+        for name, words in FUNCTIONS.items():
+            module = importlib.import_module("papersorliars." + name)
+            for word in words.split():
+                self.assertEqual(getattr(module, word).__module__, module.__name__, word)
+
+    def test_the_classes_stand_in_their_files_and_have_their_methods_themselves(self):
+        for (name, word), members in CLASSES.items():
+            module = importlib.import_module("papersorliars." + name)
+            found = getattr(module, word)
+            self.assertEqual(found.__module__, module.__name__, word)
+            for member in members.split():
+                self.assertIn(member, vars(found), word)
+        self.assertTrue(isinstance(vars(papersorliars.books.Book)["widest"], property))
+        self.assertTrue(isinstance(vars(papersorliars.players.Liar)["broken"], property))
+
+
+if __name__ == "__main__":
+    unittest.main()
