@@ -15,12 +15,20 @@ FUNCTIONS = {
     "changes": "narrowed renamed turned renamed_row turned_row fillings first_filling",
     "texts": "value_text read_value",
     "trees": "tree_fault tree_depth tree_leaves ways leaf_of narrowed_tree renamed_tree turned_tree crossed_tree",
+    "depth": "least_depth depth_tree depth_liar depth_either depth_liar_fault joined_depth_liar",
+    "depthliars": "play",
+    "leaves": "least_leaves leaf_tree share_liar leaf_either",
+    "shares": "share_fault least_pay pay_of cheapest_play",
+    "linetrees": "line_tree_fault line_tree_leaves tree_lines lines_tree",
+    "points": "branching least_points point_tree point_table point_either point_table_fault table_stands",
 }
 
 # The classes, with the methods and properties that the interface lists for them.
 CLASSES = {
     ("books", "Book"): "__init__ read text breaks widest __iter__ __contains__ __eq__ __or__ __add__ __mul__",
     ("players", "Liar"): "__init__ check_free hold broken",
+    ("depthliars", "DepthLiar"): "__init__ __call__",
+    ("pointliars", "PointLiar"): "__init__ __call__",
 }
 
 
