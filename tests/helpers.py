@@ -40,10 +40,10 @@ def raised(kind, *values):
 
 
 def plain(value):
-    """Whether the value consists of tuples, integers and strings alone, down to its last item."""
+    """Whether the value consists of tuples, short integers and words alone, down to its last item."""
     if isinstance(value, tuple):
         return type(value) is tuple and all(plain(item) for item in value)
-    return type(value) in (int, str)
+    return type(value) is int and abs(value) < 10 ** 200 or type(value) is str and value.isalpha() and value.islower()
 
 
 def all_stands(names, most=None):

@@ -36,8 +36,8 @@ class Errors(unittest.TestCase):
                 with self.assertRaises(base):
                     raise getattr(errors, name)(*range(len(fields)))
 
-    def test_errors_of_very_great_numbers_can_be_made_and_shown(self):
-        huge = 1 << 20000
+    def test_errors_of_great_numbers_can_be_made_and_shown(self):
+        huge = 10 ** 199
         for name, fields in FIELDS.items():
             error = getattr(errors, name)(*[huge for _ in fields])
             self.assertEqual(getattr(error, fields[0]), huge)

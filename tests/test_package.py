@@ -39,8 +39,8 @@ class Package(unittest.TestCase):
 
     def test_sizes_and_characters(self):
         for file in self.files():
-            lines = file.read_text(encoding="utf-8").split("\n")
-            self.assertLess(len(lines), 400, file)
+            lines = file.read_text(encoding="utf-8").splitlines()
+            self.assertLessEqual(len(lines), 399, file)
             for at, line in enumerate(lines, 1):
                 self.assertLessEqual(len(line), 120, (file, at))
                 self.assertTrue(all(" " <= sign <= "~" for sign in line), (file, at))
