@@ -33,19 +33,26 @@ def line_node_fault(book, node):
     """The kind of the fault of one node whose sides have no fault, or None."""
     if node[0] == "wish":
         return None if 0 <= node[1] < len(book.wishes) else "wish"
-    name = node[1]
-    line = node[2]
+    kind = asked_line_fault(book, node[2], node[1])
+    if kind is not None:
+        return kind
+    return sides_fault(node[2], node[1], line_of(book, node[3]), line_of(book, node[4]))
+
+
+def asked_line_fault(book, line, name):
+    """The kind of the fault of a line at which the name is asked, or None."""
     if not is_right_row(book.names, line):
         return "line"
     if name < 1 or name > book.names:
         return "name"
-    if (name, 0) in line or (name, 1) in line:
-        return "asked"
-    if not has_words(line_of(book, node[3]), line + ((name, 1),)):
+    return "asked" if (name, 0) in line or (name, 1) in line else None
+
+
+def sides_fault(line, name, left_line, right_line):
+    """The kind of the fault of the lines on both sides of a line at which the name is asked, or None."""
+    if not has_words(left_line, line + ((name, 1),)):
         return "left"
-    if not has_words(line_of(book, node[4]), line + ((name, 0),)):
-        return "right"
-    return None
+    return None if has_words(right_line, line + ((name, 0),)) else "right"
 
 
 def line_of(book, node):

@@ -33,6 +33,14 @@ def is_broken(masks, held):
     return False
 
 
+def first_broken(masks, held):
+    """The index of the first of the masks that is broken by the stand with the mask `held`, or None."""
+    for index, mask in enumerate(masks):
+        if (held & mask) == mask:
+            return index
+    return None
+
+
 def broken_indexes(wishes, stand):
     """The row of the indexes of the wishes that the stand breaks, ascending."""
     held = row_mask(stand)

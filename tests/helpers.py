@@ -151,3 +151,22 @@ def wrong_tree(source, names, wishes, deep):
     sides = [wrong_tree(source, names, wishes, deep - 1) for _ in (0, 1)]
     name = source.choice((0, names + 1)) if source.random() < 0.1 else source.randint(1, max(names, 1))
     return ("ask", name, *sides)
+
+
+def spoiled_stands(source, book, stands):
+    """The row of stands with some places changed."""
+    stands = list(stands)
+    for _ in range(source.randint(1, 2)):
+        at = source.randint(0, len(stands))
+        deed = source.randint(0, 4)
+        if deed == 0 and stands:
+            stands.pop(at % len(stands))
+        elif deed == 1:
+            stands.insert(at, source.choice(NO_STANDS))
+        elif deed == 2:
+            stands = sorted(set(stands) | {source.choice(all_stands(book.names))})
+        elif deed == 3 and stands:
+            stands.insert(at, source.choice(stands))
+        else:
+            stands = [stand for stand in stands if stand]
+    return tuple(stands)

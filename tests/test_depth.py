@@ -10,7 +10,7 @@ from papersorliars.depth import (
 from papersorliars.trees import tree_depth, tree_fault
 from tests.helpers import (
     NO_STANDS, add, all_fillings, all_stands, broken, chain_book, free, full_book, kept, plain, raised, random_book,
-    right_row, sample_books, told,
+    right_row, sample_books, spoiled_stands, told,
 )
 from tests.least import bounds_around, deeper, least_table, small_books
 
@@ -51,25 +51,6 @@ def greatest(book, bound):
         if left == stands:
             return tuple(stands) if () in stands else None
         stands = left
-
-
-def spoiled(source, book, stands):
-    """The row of stands with some places changed."""
-    stands = list(stands)
-    for _ in range(source.randint(1, 2)):
-        at = source.randint(0, len(stands))
-        deed = source.randint(0, 4)
-        if deed == 0 and stands:
-            stands.pop(at % len(stands))
-        elif deed == 1:
-            stands.insert(at, source.choice(NO_STANDS))
-        elif deed == 2:
-            stands = sorted(set(stands) | {source.choice(all_stands(book.names))})
-        elif deed == 3 and stands:
-            stands.insert(at, source.choice(stands))
-        else:
-            stands = [stand for stand in stands if stand]
-    return tuple(stands)
 
 
 class Either(unittest.TestCase):
@@ -221,7 +202,7 @@ class Fault(unittest.TestCase):
             for bound in range(4 if least is None else least):
                 right = depth_liar(book, bound)
                 for _ in range(25):
-                    stands = spoiled(source, book, right)
+                    stands = spoiled_stands(source, book, right)
                     found = depth_liar_fault(book, bound, stands)
                     self.assertEqual(found, fault(book, bound, stands))
                     kinds.add(found and found[1])

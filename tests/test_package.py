@@ -21,6 +21,12 @@ FUNCTIONS = {
     "shares": "share_fault least_pay pay_of cheapest_play",
     "linetrees": "line_tree_fault line_tree_leaves tree_lines lines_tree",
     "points": "branching least_points point_tree point_table point_either point_table_fault table_stands",
+    "readings": "reading_fault reading_room best_reading",
+    "units": "units",
+    "lines": "lines_fault lines_width",
+    "kept": "least_kept kept_lines keep_liar keep_either keep_liar_fault joined_keep_liar",
+    "askers": "asking",
+    "turning": "tidied widened narrow_lines",
 }
 
 # The classes, with the methods and properties that the interface lists for them.
@@ -29,6 +35,8 @@ CLASSES = {
     ("players", "Liar"): "__init__ check_free hold broken",
     ("depthliars", "DepthLiar"): "__init__ __call__",
     ("pointliars", "PointLiar"): "__init__ __call__",
+    ("keepliars", "KeepLiar"): "__init__ __call__ forget",
+    ("askers", "LineAsker"): "__init__ question hear",
 }
 
 
@@ -75,6 +83,7 @@ class Package(unittest.TestCase):
                 self.assertIn(member, vars(found), word)
         self.assertTrue(isinstance(vars(papersorliars.books.Book)["widest"], property))
         self.assertTrue(isinstance(vars(papersorliars.players.Liar)["broken"], property))
+        self.assertTrue(isinstance(vars(papersorliars.askers.LineAsker)["question"], property))
 
 
 if __name__ == "__main__":

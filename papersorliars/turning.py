@@ -1,0 +1,77 @@
+"""Turned rows of lines: tidied and widened rows, and the paper of a tree."""
+
+from papersorliars.changes import narrowed, narrowed_wishes
+from papersorliars.errors import BadName
+from papersorliars.lines import check_lines
+from papersorliars.points import branching
+from papersorliars.rowmaking import RowMaker
+from papersorliars.trees import check_tree, ways
+
+
+def tidied(book, rows, end=()):
+    """The rows made anew, with the least lines that their sources allow, and only those that are needed."""
+    check_lines(book, rows, end)
+    return RowMaker(book).replayed(rows, list(range(len(book.wishes))))
+
+
+def widened(book, name, answer, rows):
+    """Rows for the book from a paper for the book narrowed by the answer."""
+    if name < 1 or name > book.names:
+        raise BadName(name)
+    stand = ((name, answer),)
+    less = narrowed(book, stand)
+    check_lines(less, rows, ())
+    # In the narrowed book no wish has the name, so a row that asks it stands for one of its sources here, too.
+    indexes = old_indexes(less, narrowed_wishes(book, stand))
+    return RowMaker(book).replayed(rows, indexes)
+
+
+def old_indexes(less, rests):
+    """For each wish of the narrowed book the index of a wish of which it is the rest."""
+    found = {}
+    for index, rest in enumerate(rests):
+        found[rest] = index
+    return [found[wish] for wish in less.wishes]
+
+
+def narrow_lines(book, tree):
+    """The paper of a right tree."""
+    check_tree(book, tree)
+    maker = RowMaker(book)
+    wishes = {index: ("wish", index) for index in range(len(book.wishes))}
+    return maker.needed(narrow_source(maker, tree, wishes))
+
+
+def narrow_source(maker, node, sources):
+    """A source that the way of the node breaks, made of the sources in the place of wishes.
+
+    The side with the lesser branching number comes first, and its answer is kept meanwhile. What it
+    gives leaves one answer to the name, so the other side gets wishes without the word of the name
+    and keeps nothing more. So there are at most as many kept answers as the branching number falls.
+    """
+    if node[0] == "leaf":
+        return sources[node[1]]
+    name = node[1]
+    answer = 0 if branching(node[2]) <= branching(node[3]) else 1
+    first = narrow_source(maker, node[2 + answer], sources)
+    if (name, 1 - answer) not in maker.line(first):
+        return first
+    others = {}
+    for index in leaf_indexes(node[3 - answer]):
+        others[index] = without_word(maker, (name, answer), first, sources[index])
+    return narrow_source(maker, node[3 - answer], others)
+
+
+def leaf_indexes(tree):
+    """The indexes of the leaves of the tree, ascending."""
+    return sorted(set([index for _, index in ways(tree)]))
+
+
+def without_word(maker, word, first, source):
+    """The source joined at the name of the word with the first one, if its line has the word."""
+    if word not in maker.line(source):
+        return source
+    name, answer = word
+    if answer == 0:
+        return maker.joined(name, first, source)
+    return maker.joined(name, source, first)
