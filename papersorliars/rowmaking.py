@@ -30,11 +30,11 @@ class RowMaker:
             self.rows.append((line, name, left, right))
         return ("line", self.numbers[line])
 
-    def replayed(self, rows, indexes):
-        """The rows made for these rows, each wish of which becomes the wish with the index in its place."""
+    def replayed(self, rows, wishes):
+        """The rows made for these rows, with the sources in `wishes` in the place of their wishes."""
         sources = []
         for _, name, left, right in rows:
-            sides = [replaced_source(source, sources, indexes) for source in (left, right)]
+            sides = [replaced_source(source, sources, wishes) for source in (left, right)]
             sources.append(self.joined(name, sides[0], sides[1]))
         return self.needed(sources[-1]) if sources else ()
 
@@ -47,11 +47,9 @@ class RowMaker:
         return renumbered([self.rows[number] for number in sorted(wanted)], sorted(wanted))
 
 
-def replaced_source(source, sources, indexes):
-    """What stands for a source: for a row its place in `sources`, for a wish another index."""
-    if source[0] == "wish":
-        return ("wish", indexes[source[1]])
-    return sources[source[1]]
+def replaced_source(source, sources, wishes):
+    """What stands for a source, by those that stand for the rows and for the wishes."""
+    return wishes[source[1]] if source[0] == "wish" else sources[source[1]]
 
 
 def renumbered(rows, numbers):

@@ -11,7 +11,7 @@ from papersorliars.trees import check_tree, ways
 def tidied(book, rows, end=()):
     """The rows made anew, with the least lines that their sources allow, and only those that are needed."""
     check_lines(book, rows, end)
-    return RowMaker(book).replayed(rows, list(range(len(book.wishes))))
+    return RowMaker(book).replayed(rows, wish_sources(book))
 
 
 def widened(book, name, answer, rows):
@@ -22,15 +22,19 @@ def widened(book, name, answer, rows):
     less = narrowed(book, stand)
     check_lines(less, rows, ())
     # In the narrowed book no wish has the name, so a row that asks it stands for one of its sources here, too.
-    indexes = old_indexes(less, narrowed_wishes(book, stand))
-    return RowMaker(book).replayed(rows, indexes)
+    return RowMaker(book).replayed(rows, old_sources(less, narrowed_wishes(book, stand)))
 
 
-def old_indexes(less, rests):
-    """For each wish of the narrowed book the index of a wish of which it is the rest."""
+def wish_sources(book):
+    """The source of each wish of the book."""
+    return [("wish", index) for index in range(len(book.wishes))]
+
+
+def old_sources(less, rests):
+    """For each wish of the narrowed book the source of a wish of which it is the rest."""
     found = {}
     for index, rest in enumerate(rests):
-        found[rest] = index
+        found[rest] = ("wish", index)
     return [found[wish] for wish in less.wishes]
 
 
@@ -38,12 +42,11 @@ def narrow_lines(book, tree):
     """The paper of a right tree."""
     check_tree(book, tree)
     maker = RowMaker(book)
-    wishes = {index: ("wish", index) for index in range(len(book.wishes))}
-    return maker.needed(narrow_source(maker, tree, wishes))
+    return maker.needed(narrow_source(maker, tree, wish_sources(book)))
 
 
 def narrow_source(maker, node, sources):
-    """A source that the way of the node breaks, made of the sources in the place of wishes.
+    """A source that the way of the node breaks, made of the sources that stand for the wishes by their indexes.
 
     The side with the lesser branching number comes first, and its answer is kept meanwhile. What it
     gives leaves one answer to the name, so the other side gets wishes without the word of the name

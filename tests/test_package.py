@@ -27,6 +27,13 @@ FUNCTIONS = {
     "kept": "least_kept kept_lines keep_liar keep_either keep_liar_fault joined_keep_liar",
     "askers": "asking",
     "turning": "tidied widened narrow_lines",
+    "narrowing": "narrowed_lines",
+    "unrolling": "price unrolled flat_lines",
+    "polys": "stand_poly wish_poly",
+    "sums": "sum_fault sum_degree sum_paper least_sum sum_either tree_sum",
+    "designs": "design design_fault design_liar joined_design",
+    "rooms": "closed_room",
+    "tellers": "tellers tellers_fault teller_design",
 }
 
 # The classes, with the methods and properties that the interface lists for them.
@@ -37,6 +44,7 @@ CLASSES = {
     ("pointliars", "PointLiar"): "__init__ __call__",
     ("keepliars", "KeepLiar"): "__init__ __call__ forget",
     ("askers", "LineAsker"): "__init__ question hear",
+    ("polys", "Poly"): "__init__ degree number __call__ __iter__ __contains__ __add__ __sub__ __mul__ __neg__ __eq__",
 }
 
 
@@ -84,6 +92,7 @@ class Package(unittest.TestCase):
         self.assertTrue(isinstance(vars(papersorliars.books.Book)["widest"], property))
         self.assertTrue(isinstance(vars(papersorliars.players.Liar)["broken"], property))
         self.assertTrue(isinstance(vars(papersorliars.askers.LineAsker)["question"], property))
+        self.assertTrue(isinstance(vars(papersorliars.polys.Poly)["degree"], property))
 
 
 if __name__ == "__main__":
