@@ -29,7 +29,7 @@ def united(first, second):
 
 
 def products_over(names, most):
-    """The products of at most `most` of the ascending names, in graded order."""
+    """The products of at most `most` of the ascending names, in graded order; none if `most` is below 0."""
     found = []
     for size in range(min(len(names), most) + 1):
         found.extend(list(combinations(names, size)))

@@ -18,8 +18,6 @@ def row_stand(wish, product):
 
 def row_products(book, wish, bound):
     """The products with which the wish has at most the degree of the bound, in graded order."""
-    if len(wish) > bound:
-        return []
     return products_over(free_names(book.names, wish), bound - len(wish))
 
 

@@ -61,20 +61,12 @@ def narrow_source(maker, node, sources):
         return first
     others = {}
     for index in leaf_indexes(node[3 - answer]):
-        others[index] = without_word(maker, (name, answer), first, sources[index])
+        # A source whose line lacks the word (name, answer) stays as it is.
+        sides = (first, sources[index]) if answer == 0 else (sources[index], first)
+        others[index] = maker.joined(name, sides[0], sides[1])
     return narrow_source(maker, node[3 - answer], others)
 
 
 def leaf_indexes(tree):
     """The indexes of the leaves of the tree, ascending."""
     return sorted(set([index for _, index in ways(tree)]))
-
-
-def without_word(maker, word, first, source):
-    """The source joined at the name of the word with the first one, if its line has the word."""
-    if word not in maker.line(source):
-        return source
-    name, answer = word
-    if answer == 0:
-        return maker.joined(name, first, source)
-    return maker.joined(name, source, first)

@@ -323,6 +323,20 @@ class Narrow(unittest.TestCase):
         tree = self.halved(index, 0, 41)
         self.check(book, tree)
 
+    def test_the_narrow_side_comes_first(self):
+        # A ladder: its names 1 to 6 are answered 1 - v, then each of 7 to 12 breaks a wish with the answer v. From
+        # the lowest node upwards, the line would get one word of the names 1 to 6 after the other.
+        for v in (0, 1):
+            ends = [((x, 1 - v),) for x in range(1, 7)] + [((1, v), (7, 1 - v))]
+            ends += [((x - 6, v), (x - 1, v), (x, 1 - v)) for x in range(8, 13)] + [((12, v),)]
+            book = Book(12, ends)
+            leaves = [("leaf", book.wishes.index(wish)) for wish in ends]
+            tree = leaves[12]
+            for name in range(12, 0, -1):
+                tree = ("ask", name, *((leaves[name - 1], tree) if v == 0 else (tree, leaves[name - 1])))
+            self.assertEqual(number_of(tree, 0, branched), 1)
+            self.assertLessEqual(width_of(self.check(book, tree)), 3)
+
     def halved(self, index, low, high):
         """Asks the chain in the middle between a name answered 1 and one answered 0."""
         if high - low == 1:
