@@ -4,6 +4,7 @@ from papersorliars.errors import TooLarge
 
 MOST_SEARCHED = 6
 MOST_SUMMED = 5
+MOST_CHANCED = 4
 
 
 def check_searched(book):
@@ -13,6 +14,12 @@ def check_searched(book):
 
 
 def check_summed(names):
-    """Raises TooLarge for too many names for sums, designs, rooms and tellers."""
+    """Raises TooLarge for too many names for sums, designs, rooms, steps and tellers."""
     if names > MOST_SUMMED:
         raise TooLarge(names, MOST_SUMMED)
+
+
+def check_chanced(names):
+    """Raises TooLarge for too many names for chances and weights."""
+    if names > MOST_CHANCED:
+        raise TooLarge(names, MOST_CHANCED)

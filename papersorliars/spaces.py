@@ -62,7 +62,9 @@ def cleared(field, vector, row, place):
     common = gcd(vector[place], row[place])
     times = row[place] // common
     less = vector[place] // common
-    return [in_field(field, times * first - less * second) for first, second in zip(vector, row)]
+    if field == 0:
+        return [times * first - less * second for first, second in zip(vector, row)]
+    return [(times * first - less * second) % field for first, second in zip(vector, row)]
 
 
 def scaled(field, vector, place):

@@ -1,6 +1,7 @@
 """The manner of sums: the check, the degree, and the sum within a bound."""
 
 from papersorliars.changes import filling_of
+from papersorliars.errors import BadPaper
 from papersorliars.fields import check_size_and_field, in_field
 from papersorliars.graded import is_product_of
 from papersorliars.limits import check_summed
@@ -48,6 +49,13 @@ def adds_up(book, field, total, rows):
         if in_field(field, sum(numbers) - total) != 0:
             return False
     return True
+
+
+def check_sum(book, field, paper):
+    """Raises BadPaper with the fault of a sum."""
+    fault = sum_fault(book, field, paper)
+    if fault is not None:
+        raise BadPaper(fault[0], fault[1])
 
 
 def sum_degree(book, paper):

@@ -33,7 +33,15 @@ FUNCTIONS = {
     "sums": "sum_fault sum_degree sum_paper least_sum sum_either tree_sum",
     "designs": "design design_fault design_liar joined_design",
     "rooms": "closed_room",
+    "steps": "step_polys steps_fault step_paper least_steps steps_either",
     "tellers": "tellers tellers_fault teller_design",
+    "stepping": "sum_steps line_steps",
+    "chances": "chance_either chances least_chance chances_fault",
+    "weights": "spread weights weights_fault",
+    "mixing": "tree_weights sum_weights line_weights chances_keep chances_design cut added_chances chances_after "
+              "filling_chances joined_chances",
+    "webs": "web_book",
+    "halvings": "plan_fault plan_measure least_measure halving",
 }
 
 # The classes, with the methods and properties that the interface lists for them.
@@ -45,6 +53,7 @@ CLASSES = {
     ("keepliars", "KeepLiar"): "__init__ __call__ forget",
     ("askers", "LineAsker"): "__init__ question hear",
     ("polys", "Poly"): "__init__ degree number __call__ __iter__ __contains__ __add__ __sub__ __mul__ __neg__ __eq__",
+    ("webs", "Web"): "__init__ MOST_PLACES MOST_TIES __eq__ __iter__ odd rim parts moved odd_parts",
 }
 
 
@@ -93,6 +102,7 @@ class Package(unittest.TestCase):
         self.assertTrue(isinstance(vars(papersorliars.players.Liar)["broken"], property))
         self.assertTrue(isinstance(vars(papersorliars.askers.LineAsker)["question"], property))
         self.assertTrue(isinstance(vars(papersorliars.polys.Poly)["degree"], property))
+        self.assertTrue(isinstance(vars(papersorliars.webs.Web)["odd"], property))
 
 
 if __name__ == "__main__":
