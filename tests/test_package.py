@@ -42,6 +42,12 @@ FUNCTIONS = {
               "filling_chances joined_chances",
     "webs": "web_book",
     "halvings": "plan_fault plan_measure least_measure halving",
+    "refuges": "refuge refuge_fault",
+    "webpapers": "plan_lines refuge_liar web_sum web_either",
+    "families": "chain chain_tree chain_lines chain_alone chain_keep full full_tree full_lines full_chances",
+    "seven": "least either measures account paper_fault liar_fault",
+    "arrows": "carried_paper carried_liar",
+    "reports": "report",
 }
 
 # The classes, with the methods and properties that the interface lists for them.
@@ -54,6 +60,9 @@ CLASSES = {
     ("askers", "LineAsker"): "__init__ question hear",
     ("polys", "Poly"): "__init__ degree number __call__ __iter__ __contains__ __add__ __sub__ __mul__ __neg__ __eq__",
     ("webs", "Web"): "__init__ MOST_PLACES MOST_TIES __eq__ __iter__ odd rim parts moved odd_parts",
+    ("refuges", "Runner"): "__init__ __call__ let_go",
+    ("desk", "Desk"): "__init__ __getitem__ __setitem__ __contains__ __iter__ over drop add_wish take_wish narrow undo "
+                      "picture attempt choose ask replay",
 }
 
 
@@ -103,6 +112,8 @@ class Package(unittest.TestCase):
         self.assertTrue(isinstance(vars(papersorliars.askers.LineAsker)["question"], property))
         self.assertTrue(isinstance(vars(papersorliars.polys.Poly)["degree"], property))
         self.assertTrue(isinstance(vars(papersorliars.webs.Web)["odd"], property))
+        self.assertTrue(isinstance(vars(papersorliars.desk.Desk)["over"], property))
+        self.assertTrue(isinstance(vars(papersorliars.desk.Desk)["replay"], classmethod))
 
 
 if __name__ == "__main__":

@@ -1,5 +1,6 @@
 """Webs for the tests: rims, parts, plans and refuges by the words of the document, and webs made by chance."""
 
+import functools
 import itertools
 
 from papersorliars.errors import BadWeb
@@ -52,12 +53,12 @@ def rim(web, places):
     return tuple(x for x, (a, b) in enumerate(web.ties, 1) if (a in places) + (b in places) == 1)
 
 
-def reached(web, held, place):
+def reached(ties, held, place):
     """All places that can be reached from the place along ties that are not held."""
     found = {place}
     while True:
         more = set(found)
-        for x, ends in enumerate(web.ties, 1):
+        for x, ends in enumerate(ties, 1):
             if x not in held and found & set(ends):
                 more |= set(ends)
         if more == found:
@@ -65,8 +66,13 @@ def reached(web, held, place):
         found = more
 
 
+@functools.lru_cache(maxsize=100000)
+def parts_of(places, ties, held):
+    return tuple(sorted({reached(ties, held, place) for place in range(1, places + 1)}))
+
+
 def parts(web, held):
-    return tuple(sorted({reached(web, held, place) for place in range(1, web.places + 1)}))
+    return parts_of(web.places, web.ties, tuple(held))
 
 
 def all_ties(web):
