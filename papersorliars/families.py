@@ -3,9 +3,9 @@
 from papersorliars.books import Book
 from papersorliars.chancesearch import due_stands
 from papersorliars.errors import BadNames, NoLiar
+from papersorliars.linetrees import tree_lines
 from papersorliars.masks import broken_indexes
 from papersorliars.stands import denied, stands_of
-from papersorliars.linetrees import tree_lines
 from papersorliars.unrolling import flat_lines
 
 MOST_CHAINED = 40

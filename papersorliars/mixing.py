@@ -80,14 +80,12 @@ def spread_weights(names, bound, collected):
 
 def chances_keep(book, bound, rows):
     """The stands whose number is above 0, ascending."""
-    check_chanced(book.names)
     check_chances(book, bound, rows)
     return tuple([stand for stand, number in rows if number > 0])
 
 
 def chances_design(book, bound, rows):
     """The design over the field 0 of the degree of the bound."""
-    check_chanced(book.names)
     check_chances(book, bound, rows)
     numbers = dict(rows)
     found = []
@@ -98,7 +96,6 @@ def chances_design(book, bound, rows):
 
 def cut(book, bound, rows, lesser):
     """The pairs of the chances whose stands have at most `lesser` answers."""
-    check_chanced(book.names)
     check_chances(book, bound, rows)
     return tuple([pair for pair in rows if len(pair[0]) <= lesser])
 

@@ -1,10 +1,10 @@
 """The search for the closed room of a book over a field."""
 
-from papersorliars.graded import products_of, united
+from papersorliars.graded import products_of
 from papersorliars.polys import stand_terms
 from papersorliars.spaces import Space
 from papersorliars.stands import denied
-from papersorliars.sumsearch import product_places, vector_of
+from papersorliars.sumsearch import multiple_of, product_places, vector_of
 
 
 class RoomSearch:
@@ -34,20 +34,11 @@ class RoomSearch:
             at = at + 1
             if self.degree_of(vector) < bound:
                 for name in range(1, names + 1):
-                    self.take(self.multiple(vector, name))
+                    self.take(multiple_of(self.products, self.places, vector, name))
 
     def degree_of(self, vector):
         """The degree of a vector with terms."""
         return max([len(self.products[place]) for place, number in enumerate(vector) if number != 0])
-
-    def multiple(self, vector, name):
-        """The name times a vector whose degree is less than the bound."""
-        found = [0] * len(vector)
-        for place, number in enumerate(vector):
-            if number != 0:
-                goal = self.places[united(self.products[place], (name,))]
-                found[goal] = found[goal] + number
-        return found
 
     def has_one(self):
         """Whether the room contains 1."""

@@ -5,11 +5,12 @@ halves: in the second one stand the numbers of a polynomial, in the first one th
 polynomials, multiplied by them and added, give it. Whatever is done to one half is done to the other one.
 """
 
-from papersorliars.graded import products_of, united
+from papersorliars.fields import in_field
+from papersorliars.graded import products_of
 from papersorliars.polys import stand_terms
 from papersorliars.spaces import Space, leading_place
 from papersorliars.stands import denied
-from papersorliars.sumsearch import product_places, vector_of
+from papersorliars.sumsearch import multiple_of, product_places, vector_of
 
 
 class StepSearch:
@@ -42,21 +43,13 @@ class StepSearch:
             number, vector = self.queue[at]
             at = at + 1
             for name in range(1, names + 1):
-                self.take_step(("times", number, name), self.multiple(vector, name))
+                self.take_step(("times", number, name), multiple_of(self.products, self.places, vector, name))
 
-    def multiple(self, vector, name):
-        """The name times a vector whose degree is less than the bound."""
-        found = [0] * self.size
-        for place, number in enumerate(vector):
-            if number != 0:
-                goal = self.places[united(self.products[place], (name,))]
-                found[goal] = found[goal] + number
-        return found
-
-    def take_step(self, step, vector):
-        """Keeps the step with this polynomial, unless the steps so far give it or give a constant."""
+    def take_step(self, step, numbers):
+        """Keeps the step whose polynomial has these numbers, unless the steps so far give it or give a constant."""
         if self.found():
             return
+        vector = [in_field(self.space.field, number) for number in numbers]
         told = [0] * self.size
         told[len(self.sources)] = 1
         rest = self.space.rest(told + vector)

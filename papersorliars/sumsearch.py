@@ -5,7 +5,7 @@ and answers the names of its product 1. If these polynomials, of at most the deg
 constant, they give a sum; otherwise some numbers that give 0 to all of them give 1 another number: a design.
 """
 
-from papersorliars.graded import products_of, products_over
+from papersorliars.graded import products_of, products_over, united
 from papersorliars.polys import stand_terms
 from papersorliars.spaces import Space, annihilator
 from papersorliars.stands import denied, free_names
@@ -26,6 +26,16 @@ def vector_of(places, terms):
     found = [0] * len(places)
     for product, number in terms:
         found[places[product]] = number
+    return found
+
+
+def multiple_of(products, places, vector, name):
+    """The vector of the name times the polynomial of a vector, if all products of it have a place."""
+    found = [0] * len(vector)
+    for place, number in enumerate(vector):
+        if number != 0:
+            goal = places[united(products[place], (name,))]
+            found[goal] = found[goal] + number
     return found
 
 

@@ -1,7 +1,7 @@
 """Weights, the papers of the manner of chances: the check, and those of a book; and spread stands."""
 
-from papersorliars.changes import filling_of
 from papersorliars.chancesearch import ChanceSearch, wide_stands
+from papersorliars.changes import filling_of
 from papersorliars.errors import BadStand
 from papersorliars.limits import check_chanced
 from papersorliars.masks import is_broken, row_mask, wish_masks

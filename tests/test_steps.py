@@ -284,6 +284,18 @@ class Steps(unittest.TestCase):
             self.check_book(book, 0)
             self.check_book(book, FIELDS[1 + at % 4])
 
+    def test_books_that_need_every_multiple(self):
+        # In the first book the multiples by the name 1 are needed, in the second one those of the first wishes.
+        first = [((1, 0), (2, 0)), ((1, 0), (3, 0)), ((1, 1), (4, 1)), ((2, 0), (4, 0)), ((2, 1), (4, 0)),
+                 ((2, 1), (4, 1)), ((3, 0), (4, 1))]
+        second = [((1, 0), (2, 0), (4, 1)), ((1, 0), (2, 1)), ((1, 0), (3, 0), (4, 0)), ((1, 0), (4, 1)),
+                  ((1, 1), (2, 0), (3, 1)), ((1, 1), (3, 0)), ((2, 0), (4, 0)), ((2, 1), (3, 0)), ((3, 1), (4, 0)),
+                  ((3, 1), (4, 1))]
+        for wishes in (first, second):
+            for order in ((1, 2, 3, 4), (4, 3, 2, 1), (2, 3, 4, 1), (3, 1, 4, 2)):
+                book = Book(4, [[(order[x - 1], v) for x, v in wish] for wish in wishes])
+                self.assertEqual([self.check_book(book, field) for field in FIELDS], [2] * 5)
+
     def test_the_field_counts(self):
         # Of three answers an odd number of pairs are equal, so over 2 all six wishes add up to 1.
         wishes = [((1, 0), (2, 0)), ((1, 1), (2, 1)), ((2, 0), (3, 0)), ((2, 1), (3, 1)), ((1, 0), (3, 0)),
