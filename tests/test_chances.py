@@ -190,6 +190,26 @@ class Chances(unittest.TestCase):
             self.assertLessEqual(least_chance(book), least_sum(book, 0))
         self.assertLessEqual({2, 3, 4}, measures)
 
+    def test_books_of_narrow_wishes_that_lose_their_last_filling(self):
+        # For many of them weights need stands that are not broken, and take several of them in turn.
+        source = random.Random(546)
+        for _ in range(120):
+            book = Book(4, [random_wish(source, 4, 2, 3) for _ in range(source.randint(0, 6))])
+            for filling in all_fillings(4):
+                if not broken(book, filling):
+                    row = source.sample(filling, source.choice((2, 2, 3, 3)))
+                    book = book | Book(4, [tuple((x, 1 - v) for x, v in row)])
+            for bound in (1, 2, 3):
+                self.check(book, bound)
+
+    def test_weights_with_stands_that_are_not_broken(self):
+        wishes = [((1, 0), (2, 1)), ((1, 0), (4, 1)), ((1, 1), (2, 1), (3, 0)), ((1, 1), (3, 0), (4, 1)),
+                  ((1, 1), (3, 1)), ((2, 0), (4, 0))]
+        book = Book(4, wishes)
+        # Weights of broken stands alone would give a sum over 0 of the same degree.
+        self.assertEqual((self.check_book(book), least_sum(book, 0)), (3, 4))
+        self.assertTrue([stand for stand, number in weights(book, 3) if not broken(book, stand)])
+
     def test_all_wishes_of_one_width(self):
         for names in range(5):
             for width in range(names + 1):
